@@ -33,6 +33,10 @@ func Of(a *arena.Arena, id int) (Rest, api.Errno) {
 // place of bits.
 func (r Rest) Accepts(bits uint8) bool { return linear.Accepts(r.a, r.f, bits) }
 
+// Over tells whether nothing is left: then the pattern doesn't match the bytes
+// that have come, whatever more comes. It may not tell so at once.
+func (r Rest) Over() bool { return len(r.f) == 0 }
+
 // Behind answers what is left behind b, too, which comes at a place of bits.
 func (r Rest) Behind(b byte, bits uint8) (Rest, api.Errno) {
 	f, e := linear.Next(r.a, r.f, b, bits)

@@ -249,3 +249,40 @@ func TestErrMany(t *testing.T) {
 		r = behind(t, r, 'b', 0)
 	}
 }
+
+// TestOver holds what is over against what is accepted from then on.
+func TestOver(t *testing.T) {
+	for text, w := range map[string]string{"[]": "", "ab": "b", "()": "a", "a*b": "aabb", "(ab)*": "abb", "a*&(ab?)*": "ab", "~(~(a))": "ab", "^a": "a", "~[]b[]": ""} {
+		r := begin(t, text)
+		for i, b := range []byte(w) {
+			if r.Over() {
+				t.Errorf("%q is over at %d of %q", text, i, w)
+			}
+			r = behind(t, r, b, 0)
+		}
+		if !r.Over() {
+			t.Errorf("%q isn't over behind %q", text, w)
+		}
+	}
+	for _, text := range texts {
+		for _, w := range inputs(4) {
+			r := begin(t, text)
+			over := r.Over()
+			for i, b := range []byte(w) {
+				r = behind(t, r, b, bitsAt(i))
+				if over && (!r.Over() || r.Accepts(0) || r.Accepts(3)) {
+					t.Errorf("%q is over, and no longer behind %q", text, w[:i+1])
+				}
+				over = r.Over()
+			}
+		}
+	}
+	for _, text := range []string{"()", "~[]", "a*", "~(ab)"} {
+		if r := begin(t, text); r.Over() {
+			t.Errorf("%q is over", text)
+		}
+	}
+	if !(Rest{}).Over() {
+		t.Error("none isn't over")
+	}
+}

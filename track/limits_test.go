@@ -11,22 +11,6 @@ import (
 	"bolter/tree"
 )
 
-// greatOnes are patterns with an And or a Not of which many parts, or many
-// nodes come, if they may begin anywhere; in a look they are of the greatest
-// Size of which R8 says that there is no ErrMany.
-var greatOnes = []string{
-	"(~((a{10,11})*))*", "(~((a{9,10})*))b", "(~([ab]*a[ab]{8}))", "(~([ab]*a[ab]{6}))b", "(~(a[ab]*b[ab]{6}))*",
-	"((~((b{4,5})*))*)&a*", "((~((b{3,4})*))*)&(~a{2})", "(~(~(~(~(([abc][abc][ab]a*)*))*)*)*)*", "~((~((~(([abc]{3}(~b)[ab])*))*))*)",
-	"~([ab]*((b{2})*&(b{3,4})*))", "~([ab]*~([ab]*~(a[ab]*b)))", "(()|a|b*)&(()|b|a*)&(a|c)", "(([ab]*a[ab])&([ab]*b[ab]))*",
-	"(((~([bc]*))(~[ac])[ac]([abc]{3}))*)+", "(~(~c)c[ac]{2}(~[ab])abc)", "([bc][abc]b)&(~c){3,}",
-}
-
-// longOnes are patterns without both, likewise.
-var longOnes = []string{
-	"[ab]{20}[ab]{20}a[ab]{13}", "([ab]*a[ab]{17}|[ab]*b[ab]{18}|a{11})*", "(a?b?){11}", "((ab?){0,4}|(b*a){0,4}|(a|b){0,4})*",
-	"((a|b*){1,6}(ab|b*a*){0,3})*", "(((a{0,2}b){0,3}a?){0,3})*", "((a*b*)*(b*a*)*|(a*a*)*(b*b*)*|((ab*)*a)*)*b{19}", "(a{18,19}|b{17,18})*b{16}",
-}
-
 // small is the look at a pattern, of R8's Sizes.
 func small(t *testing.T, kind int, text string, most int) api.Re {
 	t.Helper()
@@ -35,15 +19,6 @@ func small(t *testing.T, kind int, text string, most int) api.Re {
 		t.Errorf("%q is of the Size %d", text, size)
 	}
 	return look
-}
-
-// longInputs are such of one byte, of some over and over, and by chance.
-func longInputs(d *check.Dice, long int) []string {
-	var l []string
-	for _, word := range []string{"a", "b", "ab", "aab", "abb", "aabbc", "aaaaaaaaaab", d.Input("abc", 17) + "a"} {
-		l = append(l, strings.Repeat(word, long/len(word)+1)[:long])
-	}
-	return append(l, d.InputOf("abc", long))
 }
 
 // turnedRound is the plan of the looks of p, turned round: they may stand in
@@ -86,13 +61,13 @@ func wantSame(t *testing.T, p looks.Plan, w string) {
 // TestNoErrMany goes along inputs with looks of R8's Sizes, one in a plan.
 func TestNoErrMany(t *testing.T) {
 	d := check.Dice(3)
-	for most, l := range map[int][]string{16: greatOnes, 60: longOnes} {
+	for most, l := range map[int][]string{16: check.Great(), 60: check.Long()} {
 		for _, text := range l {
 			p, e := looks.Make([]api.Re{small(t, api.Behind, text, most)})
 			if e != api.OK {
 				t.Fatalf("%q: %v", text, e)
 			}
-			for _, w := range longInputs(&d, 160) {
+			for _, w := range d.LongInputs(160) {
 				wantSame(t, p, w)
 			}
 		}
@@ -116,7 +91,7 @@ func TestNoErrManyTogether(t *testing.T) {
 		if e != api.OK || sum > 60 {
 			t.Fatalf("%q: %v, of the Size %d", l, e, sum)
 		}
-		for _, w := range longInputs(&d, 160) {
+		for _, w := range d.LongInputs(160) {
 			wantSame(t, p, w)
 		}
 	}

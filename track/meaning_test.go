@@ -1,7 +1,6 @@
 package track
 
 import (
-	"strings"
 	"testing"
 
 	"bolter/api"
@@ -26,24 +25,8 @@ func wantMeaning(t *testing.T, l []api.Re, in []string) int {
 	return len(p.Looks)
 }
 
-// views are the Kinds that look, each at X; parts are patterns of each Kind,
-// without others in them that look, and with; hulls are such of each Kind in
-// which X stands, some levels down.
-var (
-	views = []string{"(?=X)", "(?!X)", "(?<=X)", "(?<!X)"}
-	parts = []string{
-		"[]", "()", "a", "[a\n]", "[^a]", "ab", "a\nb", "()a", "a|b", "ab|b|()", "a*&(ab?)*", "a&b", ".*&~(a*)",
-		"~a", "~(ab*)", "~[]", "~()", "~~a", "a*", "a?", "b+", "a{2}", "b{1,2}", "(ab){0,2}", "(a|b\n)*", "a*b", ".*b", "[^b]*a(a|b)",
-	}
-	inner = []string{"^", "$", "(?=a)", "(?!a)", "(?<=a)", "(?<!a)", "(?=ab*$)", "(?!^.)", "(?<=~a)", "(?<!a|b*a)", "(?=)", "(?![])", "(?<=)", "(?<![])"}
-	hulls = []string{
-		"Xb", "aX", "aXb", "XX", "aXbX", "b|X", "X|a|()", "X&()", ".*&X*", "~X", "~(aX)", "~(Xa)b", "X*", "(Xa)*", "(aX){0,2}", "(Xb|a){2}",
-		"X?b", "X{0,1}", "X{1,2}", "(?=X)", "(?!aX)", "(?<=X)", "(?<!Xb)", "(?<=aX)b", "((X|b)(a|X)*)&~(aX)",
-	}
-)
-
-// in is a text in which another one stands.
-func in(text, other string) string { return strings.ReplaceAll(text, "X", "("+other+")") }
+// blind are patterns without others in them that look, inner such with.
+var views, blind, inner, hulls = check.Views(), check.Blind(), check.Looking(), check.Hulls()
 
 // TestMeaningOfOnes has each Kind that looks at a pattern of each Kind, and
 // such that look alone.
@@ -53,9 +36,9 @@ func TestMeaningOfOnes(t *testing.T) {
 		wantMeaning(t, []api.Re{check.Read(text)}, all)
 	}
 	for _, view := range views {
-		for _, text := range parts {
-			if wantMeaning(t, []api.Re{check.Read(in(view, text))}, all) != 1 {
-				t.Errorf("%q has no look", in(view, text))
+		for _, text := range blind {
+			if wantMeaning(t, []api.Re{check.Read(check.In(view, text))}, all) != 1 {
+				t.Errorf("%q has no look", check.In(view, text))
 			}
 		}
 	}
@@ -68,11 +51,11 @@ func TestMeaningOfLooksInLooks(t *testing.T) {
 	asked := 0
 	for i, view := range views {
 		for _, text := range inner {
-			wantMeaning(t, []api.Re{check.Read(in(view, text))}, all)
+			wantMeaning(t, []api.Re{check.Read(check.In(view, text))}, all)
 			for _, hull := range hulls {
-				asked += wantMeaning(t, []api.Re{check.Read(in(view, in(hull, text)))}, all[:40])
+				asked += wantMeaning(t, []api.Re{check.Read(check.In(view, check.In(hull, text)))}, all[:40])
 				outer := hulls[asked%len(hulls)]
-				wantMeaning(t, []api.Re{check.Read(in(views[(asked+i)%4], in(outer, in(hull, text))))}, all[:40])
+				wantMeaning(t, []api.Re{check.Read(check.In(views[(asked+i)%4], check.In(outer, check.In(hull, text))))}, all[:40])
 			}
 		}
 	}
@@ -85,10 +68,10 @@ func TestMeaningOfLooksInLooks(t *testing.T) {
 func TestMeaningOfLists(t *testing.T) {
 	all := check.Inputs("ab\n", 4)
 	most := 0
-	for i, text := range parts {
+	for i, text := range blind {
 		for k := range 8 {
 			l := check.ReadAll(
-				in(views[k%4], text), in(views[k/2], inner[(i+k)%len(inner)]), in(views[i%4], parts[(i+k+1)%len(parts)]), inner[k],
+				check.In(views[k%4], text), check.In(views[k/2], inner[(i+k)%len(inner)]), check.In(views[i%4], blind[(i+k+1)%len(blind)]), inner[k],
 			)
 			if n := wantMeaning(t, l[:2+k%3], all); n == api.MaxLooks {
 				most++
